@@ -1,0 +1,1 @@
+"""Cut plans for ice: which pieces come from which stick, with the least ice lost."""
