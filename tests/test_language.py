@@ -69,6 +69,7 @@ class FileTest(unittest.TestCase):
                     drawn[path.stem].append(node.module.split(".")[1])
                     source = ast.parse((PACKAGE / (node.module.split(".")[1] + ".py")).read_text())
                     defined = [made.name for made in source.body if isinstance(made, (ast.FunctionDef, ast.ClassDef))]
+                    defined += [made.targets[0].id for made in source.body if isinstance(made, ast.Assign)]
                     for alias in node.names:
                         self.assertIn(alias.name, defined)
                         self.assertIsNone(alias.asname)
